@@ -1,0 +1,1 @@
+"""A notebook's outline: sections in sections, moved as trees, numbered anew."""

@@ -1,0 +1,15 @@
+"""The numbers that a refused call answers."""
+
+NO_NODE = -1
+NO_PLACE = -2
+NOT_A_TEXT = -3
+TOO_MANY_NODES = -4
+TOO_DEEP = -5
+NUMBERS_USED_UP = -6
+IS_A_CELL = -7
+INTO_ITSELF = -8
+NOTHING_TO_DO = -9
+NOT_SIBLINGS = -10
+NO_SUCH_MARK = -11
+NO_SUCH_DEPTH = -12
+TEXT_TOO_LONG = -14
