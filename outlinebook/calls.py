@@ -46,6 +46,11 @@ class Call:
         self.row = row
 
 
+def counted(row):
+    """How a list is told: how many numbers it has, then they."""
+    return [len(row)] + row
+
+
 def read_calls(numbers):
     """The calls that the list of numbers writes, in order."""
     found = []

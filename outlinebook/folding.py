@@ -1,9 +1,7 @@
 """The calls that fold sections and unfold them: fold, foldFrom, reveal."""
 
-from outlinebook.nodes import parent_position, position_of
+from outlinebook.nodes import DEEPEST_NODE, parent_position, position_of
 from outlinebook.refusals import IS_A_CELL, NO_NODE, NO_SUCH_DEPTH, NO_SUCH_MARK
-
-DEEPEST_NODE = 7
 
 
 def fold_section(outline, number, mark):

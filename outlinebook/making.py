@@ -1,7 +1,7 @@
 """The calls that make nodes, write their texts or take nodes out: section, cell, wrap, write, drop, dissolve."""
 
 from outlinebook.nodes import DEEPEST_SECTION, LAST_NUMBER, MOST_NODES, Node
-from outlinebook.nodes import deepen, inserted, place_at, position_of, too_deep, tree_end
+from outlinebook.nodes import children_count, deepen, inserted, place_at, position_of, too_deep, tree_end
 from outlinebook.refusals import IS_A_CELL, NO_NODE, NO_PLACE, NOT_A_TEXT, NOT_SIBLINGS
 from outlinebook.refusals import NUMBERS_USED_UP, TOO_DEEP, TOO_MANY_NODES
 from outlinebook.texts import is_text
@@ -98,8 +98,7 @@ def dissolve_section(outline, number):
         return [NO_NODE]
     if nodes[start].cell == 1:
         return [IS_A_CELL]
-    freed = nodes[start + 1:tree_end(nodes, start)]
-    children = len([node for node in freed if node.depth == nodes[start].depth + 1])
-    deepen(freed, -1)
+    children = children_count(nodes, start)
+    deepen(nodes[start + 1:tree_end(nodes, start)], -1)
     outline.nodes = nodes[:start] + nodes[start + 1:]
     return [children]

@@ -7,6 +7,7 @@ it that is less deep, and a tree is always an unbroken run of the list.
 
 MOST_NODES = 60
 DEEPEST_SECTION = 6
+DEEPEST_NODE = 7
 LAST_NUMBER = 999
 
 
@@ -74,6 +75,12 @@ def children_run(nodes, parent):
     if position is None or nodes[position].cell == 1:
         return None
     return (position + 1, tree_end(nodes, position), nodes[position].depth + 1)
+
+
+def children_count(nodes, position):
+    """How many children the node at position has."""
+    inside = nodes[position + 1:tree_end(nodes, position)]
+    return len([node for node in inside if node.depth == nodes[position].depth + 1])
 
 
 def place_at(nodes, parent, after):

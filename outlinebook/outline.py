@@ -1,16 +1,15 @@
 """The answers to a list of calls on one outline."""
 
-from outlinebook.calls import read_calls
+from outlinebook.calls import counted, read_calls
 from outlinebook.copying import copy_tree
 from outlinebook.folding import fold_from, fold_section, reveal_node
 from outlinebook.making import add_node, dissolve_section, drop_tree, wrap_siblings, write_text
 from outlinebook.moving import demote_tree, move_tree, promote_tree, raise_tree, sort_children
 from outlinebook.nodes import Outline
-from outlinebook.reading import order_of
-
-
-class CallNotBuilt(Exception):
-    """The call can be read, but there is nothing yet that answers it."""
+from outlinebook.reading import info_of, order_of, path_to, state_of, step_from, view_of
+from outlinebook.saving import load_outline, save_outline
+from outlinebook.telling import broken_in, contents_to, find_label, label_of, references_of, referring_to
+from outlinebook.telling import search_for, shown_text_of, text_of
 
 
 def answer_making(outline, name, wholes, row):
@@ -58,24 +57,61 @@ def answer_folding(outline, name, wholes):
     return None
 
 
-def answer_reading(outline, name):
-    """The answer to a call that only tells; None for any other call."""
+def answer_reading(outline, name, wholes):
+    """The answer to a call that tells where nodes stand; None for any other call."""
     if name == "order":
         return order_of(outline)
+    if name == "view":
+        return view_of(outline)
+    if name == "info":
+        return info_of(outline, wholes[0])
+    if name == "path":
+        return path_to(outline, wholes[0])
+    if name == "step":
+        return step_from(outline, wholes[0], wholes[1])
+    if name == "state":
+        return state_of(outline)
+    return None
+
+
+def answer_telling(outline, name, wholes, row):
+    """The answer to a call that tells labels, texts or references; None for any other call."""
+    if name == "label":
+        return label_of(outline, wholes[0])
+    if name == "find":
+        return find_label(outline, row)
+    if name == "text":
+        return text_of(outline, wholes[0])
+    if name == "shown":
+        return shown_text_of(outline, wholes[0])
+    if name == "contents":
+        return contents_to(outline, wholes[0])
+    if name == "references":
+        return references_of(outline, wholes[0])
+    if name == "referring":
+        return referring_to(outline, wholes[0])
+    if name == "broken":
+        return broken_in(outline)
+    if name == "search":
+        return search_for(outline, row)
     return None
 
 
 def answer_to(outline, call):
     """What the call answers, as a list of whole numbers; the outline is changed as the call asks."""
+    if call.name == "save":
+        return save_outline(outline)
+    if call.name == "load":
+        return load_outline(outline, call.row)
     answer = answer_making(outline, call.name, call.wholes, call.row)
     if answer is None:
         answer = answer_moving(outline, call.name, call.wholes)
     if answer is None:
         answer = answer_folding(outline, call.name, call.wholes)
     if answer is None:
-        answer = answer_reading(outline, call.name)
+        answer = answer_reading(outline, call.name, call.wholes)
     if answer is None:
-        raise CallNotBuilt(call.name)
+        answer = answer_telling(outline, call.name, call.wholes, call.row)
     return answer
 
 
@@ -84,7 +120,5 @@ def answers(calls):
     outline = Outline()
     told = []
     for call in read_calls(calls):
-        answer = answer_to(outline, call)
-        told.append(len(answer))
-        told.extend(answer)
+        told.extend(counted(answer_to(outline, call)))
     return told

@@ -4,6 +4,7 @@ MOST_BYTES = 60
 FIRST_BYTE = 32
 LAST_BYTE = 126
 AT_SIGN = 64
+QUESTION_MARK = 63
 ZERO = 48
 NINE = 57
 MOST_DIGITS = 3
@@ -16,9 +17,14 @@ def is_text(row):
     return all([FIRST_BYTE <= byte <= LAST_BYTE for byte in row])
 
 
+def bytes_of(signs):
+    """The bytes of a text that Python writes as signs."""
+    return [ord(sign) for sign in signs]
+
+
 def digits_of(number):
     """The bytes of the number in decimal."""
-    return [ord(sign) for sign in str(number)]
+    return bytes_of(str(number))
 
 
 def number_of(digits):
@@ -39,21 +45,46 @@ def reference_end(text, start):
     return end
 
 
+def parts_of(text):
+    """The text in parts, each as (where it begins, where it ends, the number that it refers to, or 0).
+
+    A part is a reference, or two signs @ that show one, or one byte that shows itself.
+    """
+    parts = []
+    start = 0
+    while start < len(text):
+        end = start + 1
+        number = 0
+        if text[start] == AT_SIGN and text[end:end + 1] == [AT_SIGN]:
+            end += 1
+        elif text[start] == AT_SIGN:
+            end = reference_end(text, end)
+            number = number_of(text[start + 1:end])
+        parts.append((start, end, number))
+        start = end
+    return parts
+
+
 def references_in(text):
     """The text's references in order, each as (where its digits begin, where they end, its number)."""
-    found = []
-    position = 0
-    while position < len(text):
-        behind = position + 1
-        if text[position] != AT_SIGN:
-            position = behind
-        elif text[behind:behind + 1] == [AT_SIGN]:
-            position = behind + 1
+    return [(start + 1, end, number) for start, end, number in parts_of(text) if number != 0]
+
+
+def numbers_referred(text):
+    """The numbers that the text refers to, in order."""
+    return [number for start, end, number in references_in(text)]
+
+
+def shown(text, labels):
+    """What the text shows, where the dict labels holds each node's label by its number."""
+    bytes_shown = []
+    for start, end, number in parts_of(text):
+        if number == 0:
+            # Of two signs @ only one is shown, so the first byte stands for every part of this kind.
+            bytes_shown.append(text[start])
         else:
-            position = reference_end(text, behind)
-            if position > behind:
-                found.append((behind, position, number_of(text[behind:position])))
-    return found
+            bytes_shown.extend(labels.get(number, [QUESTION_MARK]))
+    return bytes_shown
 
 
 def renumbered(text, numbers):

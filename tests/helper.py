@@ -17,6 +17,11 @@ NUMBERS = {
 }
 HUGE = 10 ** 18
 NO_NUMBERS = (0, -1, 77, 999, 1000, HUGE, -HUGE)
+REFERENCE = re.compile("@@|@([1-9][0-9]{0,2})")
+WRITTEN_NUMBER = "(0|[1-9][0-9]{0,3})"
+FIRST_LINE = re.compile(f"outline {WRITTEN_NUMBER}\n")
+NODE_LINE = re.compile(
+    f"(?:(#{{1,7}}) {WRITTEN_NUMBER} ([+-]) |(={{1,7}}) {WRITTEN_NUMBER} )([ -~]{{0,60}})\n")
 
 
 def row_of(text):
@@ -49,9 +54,29 @@ def split_answers(told):
     return found
 
 
+def alone(answer):
+    """The answer's number if it is alone, else the answer."""
+    return answer[0] if len(answer) == 1 else answer
+
+
+def counted(told):
+    """How many, then they."""
+    return [len(told)] + list(told)
+
+
+def signs_of(row):
+    """A str from a row of bytes."""
+    return "".join(map(chr, row))
+
+
+def signs_with_strangers(row):
+    """A str from a row of any numbers, where each that is no byte is a sign that no text has."""
+    return "".join(chr(number) if 0 <= number <= 255 else "\uffff" for number in row)
+
+
 def state_of(outline):
     """All that the outline holds, as values."""
-    rows = [(node.number, node.depth, node.cell, node.folded, "".join(map(chr, node.text))) for node in outline.nodes]
+    rows = [(node.number, node.depth, node.cell, node.folded, signs_of(node.text)) for node in outline.nodes]
     return rows, outline.next_number
 
 
@@ -70,8 +95,8 @@ class Book:
         assert len(calls) == 1, "one call was read as another count"
         answer = answer_to(self.outline, calls[0])
         self.numbers += numbers
-        self.told += [len(answer)] + answer
-        return answer[0] if len(answer) == 1 else answer
+        self.told += counted(answer)
+        return alone(answer)
 
     def state(self):
         return state_of(self.outline)
@@ -100,15 +125,46 @@ class BookTest(unittest.TestCase):
     def tearDown(self):
         if self.book.numbers:
             self.assertLessEqual(len(read_calls(self.book.numbers)), 200)
+            self.assertLessEqual(len(self.book.numbers), 16000)
             handed = list(self.book.numbers)
-            self.assertEqual(answers(handed), self.book.told)
-            self.assertEqual(handed, self.book.numbers)
+            for time in range(2):
+                self.assertEqual(answers(handed), self.book.told)
+                self.assertEqual(handed, self.book.numbers)
 
     def refused(self, refusal, name, *arguments):
         """The call answers the refusal alone and leaves everything as it was."""
         before = self.book.state()
         self.assertEqual(self.do(name, *arguments), refusal, (name, arguments))
         self.assertEqual(self.book.state(), before, (name, arguments))
+
+    def tell(self, name, *arguments):
+        """The answer, always as a list, to a call that leaves everything as it was."""
+        before = self.book.state()
+        answer = self.do(name, *arguments)
+        self.assertEqual(self.book.state(), before, (name, arguments))
+        return answer if isinstance(answer, list) else [answer]
+
+    def tell_row(self, name, *arguments):
+        """What such a call tells behind how many it is, as a list."""
+        answer = self.tell(name, *arguments)
+        self.assertEqual(answer[0], len(answer) - 1, (name, arguments))
+        return answer[1:]
+
+    def tell_signs(self, name, *arguments):
+        """The bytes that such a call tells, as a str."""
+        return signs_of(self.tell_row(name, *arguments))
+
+    def labels(self):
+        """Each node's label as a str, by its number in reading order."""
+        return {number: self.tell_signs("label", number) for number, depth in self.book.shape()}
+
+    def load(self, text):
+        """Load a text without fault."""
+        self.assertEqual(self.do("load", text), 0, text)
+
+    def fault(self, fault, line, text):
+        """The text has the fault at the line, and the call load leaves everything as it was."""
+        self.assertEqual(self.tell("load", text), [fault, line], text)
 
     def build(self, plan):
         """Nodes from rows such as '# A', '## B', '= text' (as many signs as the depth), behind all that are there."""
@@ -207,7 +263,7 @@ class Model:
     def state(self):
         rows = []
         for node in self.every():
-            text = "".join(map(chr, node["text"]))
+            text = signs_of(node["text"])
             rows.append((node["number"], self.depth(node), int(node["cell"]), node["folded"], text))
         return rows, self.upcoming
 
@@ -346,7 +402,7 @@ class Model:
         if home is None:
             return -7
         before = home["children"]
-        home["children"] = sorted(before, key=lambda node: "".join(map(chr, node["text"])))
+        home["children"] = sorted(before, key=lambda node: signs_of(node["text"]))
         return sum(one is not other for one, other in zip(before, home["children"]))
 
     def call_copy(self, number, parent, after):
@@ -376,7 +432,7 @@ class Model:
             number = int(found[1]) if found[1] else 0
             return f"@{renamed[number]}" if number in renamed else found[0]
 
-        text = re.sub(r"@@|@([1-9][0-9]{0,2})", anew, "".join(map(chr, node["text"])))
+        text = REFERENCE.sub(anew, signs_of(node["text"]))
         children = [self.twin(child, renamed) for child in node["children"]]
         return dict(node, number=renamed[node["number"]], text=row_of(text), children=children)
 
@@ -413,4 +469,154 @@ class Model:
         told = [len(self.every())]
         for node in self.every():
             told += [node["number"], self.depth(node)]
-        return told if len(told) > 1 else told[0]
+        return alone(told)
+
+    def labels(self):
+        found = {}
+
+        def name_sections(home, before):
+            sections = [child for child in home["children"] if not child["cell"]]
+            for place, section in enumerate(sections, 1):
+                found[section["number"]] = f"{before}{place}"
+                name_sections(section, f"{before}{place}.")
+
+        name_sections(self.top, "")
+        cells = [node["number"] for node in self.every() if node["cell"]]
+        found.update({number: f"#{place}" for place, number in enumerate(cells, 1)})
+        return found
+
+    def shown(self, node):
+        labels = self.labels()
+        return REFERENCE.sub(
+            lambda found: labels.get(int(found[1]), "?") if found[1] else "@", signs_of(node["text"]))
+
+    def referred(self, node):
+        return [int(found) for found in REFERENCE.findall(signs_of(node["text"])) if found]
+
+    def around(self, node):
+        """The sections that the node is in, from the top one on."""
+        home = self.parent(node)
+        return [] if home is self.top else self.around(home) + [home]
+
+    def visible(self):
+        return [node for node in self.every() if not any(home["folded"] for home in self.around(node))]
+
+    def numbers_where(self, fits):
+        return alone(counted([node["number"] for node in self.every() if fits(node)]))
+
+    def call_view(self):
+        told = [len(self.visible())]
+        for node in self.visible():
+            told += [node["number"], self.depth(node), len(self.trees(node)) - 1 if node["folded"] else 0]
+        return alone(told)
+
+    def call_label(self, number):
+        return counted(row_of(self.labels()[number])) if self.get(number) else -1
+
+    def call_find(self, label):
+        return next((number for number, other in self.labels().items() if row_of(other) == list(label)), -13)
+
+    def call_text(self, number):
+        return alone(counted(self.get(number)["text"])) if self.get(number) else -1
+
+    def call_shown(self, number):
+        return alone(counted(row_of(self.shown(self.get(number))))) if self.get(number) else -1
+
+    def call_contents(self, depth):
+        if depth not in range(1, 8):
+            return -12
+        sections = [node for node in self.every() if not node["cell"] and self.depth(node) <= depth]
+        told = [len(sections)]
+        for node in sections:
+            told += [node["number"]] + counted(row_of(self.labels()[node["number"]]))
+            told += counted(row_of(self.shown(node)))
+        return alone(told)
+
+    def call_info(self, number):
+        node = self.get(number)
+        if node is None:
+            return -1
+        return [int(node["cell"]), self.depth(node), node["folded"], len(node["children"]), len(self.trees(node)),
+                self.parent(node)["number"]]
+
+    def call_path(self, number):
+        node = self.get(number)
+        return counted([home["number"] for home in self.around(node)] + [number]) if node else -1
+
+    def call_references(self, number):
+        node = self.get(number)
+        if node is None:
+            return -1
+        told = [len(self.referred(node))]
+        for other in self.referred(node):
+            told += [other, int(self.get(other) is not None)]
+        return alone(told)
+
+    def call_referring(self, number):
+        return self.numbers_where(lambda node: number in self.referred(node)) if self.get(number) else -1
+
+    def call_broken(self):
+        return self.numbers_where(lambda node: any(self.get(other) is None for other in self.referred(node)))
+
+    def call_search(self, row):
+        return self.numbers_where(lambda node: signs_with_strangers(row) in self.shown(node))
+
+    def call_step(self, number, direction):
+        if self.get(number) is None:
+            return -1
+        if direction not in (1, -1):
+            return -16
+        numbers = [0] + [node["number"] for node in self.visible()] + [0]
+        return numbers[numbers.index(number) + direction] if number in numbers else -15
+
+    def saved(self):
+        lines = [f"outline {self.upcoming}\n"]
+        for node in self.every():
+            sign, mark = ("=", "") if node["cell"] else ("#", "- " if node["folded"] else "+ ")
+            lines.append(f"{sign * self.depth(node)} {node['number']} {mark}{signs_of(node['text'])}\n")
+        return "".join(lines)
+
+    def call_save(self):
+        return counted(row_of(self.saved()))
+
+    def call_load(self, row):
+        text = signs_with_strangers(row)
+        loaded = Model()
+        sections = []
+        before = None
+        for place, line in enumerate(re.findall(r"[^\n]*\n|[^\n]+", text) or [""]):
+            fault = loaded.line_fault(line, place, sections, before)
+            if fault:
+                return [fault, place]
+            before = loaded.every()[-1] if place else None
+        self.top, self.upcoming = loaded.top, loaded.upcoming
+        return 0
+
+    def line_fault(self, line, place, sections, before):
+        """The line's fault, or 0 where it was taken; sections are those that are still open."""
+        found = (NODE_LINE if place else FIRST_LINE).fullmatch(line)
+        if not line.endswith("\n"):
+            return 1
+        if not found:
+            return 2
+        if not place:
+            self.upcoming = int(found[1])
+            return 0 if 1 <= self.upcoming <= 1000 else 3
+        signs, number, mark, text = found[1] or found[4], int(found[2] or found[5]), found[3], found[6]
+        depth = len(signs)
+        if not 1 <= number <= 999 or number >= self.upcoming or self.get(number) or (mark and depth > 6):
+            return 3
+        limit = 1 if before is None else self.depth(before) + (0 if before["cell"] else 1)
+        if depth > limit:
+            return 4
+        if len(self.every()) == 60:
+            return 5
+        node = {"number": number, "cell": not mark, "folded": int(mark == "-"), "text": row_of(text), "children": []}
+        sections[depth - 1:] = []
+        (sections[-1] if sections else self.top)["children"].append(node)
+        sections += [] if node["cell"] else [node]
+        return 0
+
+    def call_state(self):
+        cells = sum(node["cell"] for node in self.every())
+        return [len(self.every()), len(self.every()) - cells, cells, self.upcoming]

@@ -1,10 +1,10 @@
-"""Point 10 (order), and the interface: how calls are read and answers given back."""
+"""Point 10 (order), and the interface: how calls are read and answers given back, over the whole program."""
 
 import unittest
 
 from outlinebook.calls import read_calls
-from outlinebook.outline import CallNotBuilt, answers
-from tests.helper import HUGE, BookTest, split_answers, written
+from outlinebook.outline import answers
+from tests.helper import HUGE, NUMBERS, BookTest, row_of, split_answers, written
 
 # Each call once, with its whole numbers and its row as the interface writes them.
 EVERY_CALL = (
@@ -61,11 +61,6 @@ class ReadCallsTest(unittest.TestCase):
                 [(call.name, call.wholes, call.row) for call in read_calls(numbers)],
                 [(name, wholes, row or []) for name, wholes, row in calls])
 
-    def test_calls_not_built_are_no_answers(self):
-        for name, wholes, row in EVERY_CALL[16:]:
-            with self.assertRaises(CallNotBuilt):
-                answers(written(name, *wholes, *([] if row is None else [row])))
-
 
 class AnswersTest(unittest.TestCase):
     def test_as_written_in_the_document(self):
@@ -118,3 +113,62 @@ class AnswersTest(unittest.TestCase):
             calls += written("cell", 0, 0, "x")
         self.assertEqual(
             split_answers(answers(calls)), [[number] for number in range(1, 61)] + [[-4]] * 140)
+
+
+class WholeProgramTest(unittest.TestCase):
+    """Every call, with ordinary arguments and with wrong ones, on an outline of each kind."""
+
+    OUTLINES = (
+        "outline 1\n", "outline 1000\n", "outline 8\n# 1 - A @7\n## 2 + B @@\n=== 3 c @9\n= 7 @1\n",
+        "outline 1000\n" + "".join(f"{'#' * min(depth, 6)} {depth} + {'@6' * 30}\n" for depth in range(1, 61)))
+    WHOLES = (0, 1, 2, 7, -1, 60, 1000, HUGE, -HUGE)
+    ROWS = ("", "A", "1.1", "outline 3\n# 1 + x\n", [HUGE] * 200, [-HUGE, 0, 255, 256], [64] * 60)
+
+    def calls_of(self, name, wholes, row, outline):
+        """Lists of calls: the outline is loaded, then the call is made with many arguments, then all is told."""
+        rows = [[]] if row is None else [[row_of(other)] for other in self.ROWS]
+        for first in self.WHOLES:
+            calls = written("load", outline)
+            for second in self.WHOLES[:4] + (-HUGE,) if len(wholes) > 1 else (0,):
+                for other in rows:
+                    calls += written(name, *[first, second, first][:len(wholes)], *other)
+            yield calls + written("save") + written("state")
+
+    def test_no_call_raises_and_nothing_is_kept(self):
+        for name, wholes, row in EVERY_CALL:
+            for outline in self.OUTLINES:
+                for calls in self.calls_of(name, wholes, row, outline):
+                    handed = list(calls)
+                    told = answers(handed)
+                    self.assertEqual(handed, calls)
+                    self.assertEqual(answers(handed), told)
+                    self.check_answers(read_calls(calls), split_answers(told))
+
+    def check_answers(self, calls, told):
+        self.assertEqual(len(told), len(calls))
+        for answer in told:
+            self.assertEqual({type(number) for number in answer}, {int})
+            self.assertTrue(len(answer) == 1 if answer[0] < 0 else min(answer) >= 0, answer)
+            self.assertGreaterEqual(answer[0], -16)
+
+    def test_every_call_is_there(self):
+        self.assertEqual([name for name, wholes, row in EVERY_CALL], sorted(NUMBERS, key=NUMBERS.get))
+
+    def test_one_list_with_every_call(self):
+        calls = []
+        for name, wholes, row in EVERY_CALL:
+            calls += written(name, *wholes, *([] if row is None else [row]))
+        told = split_answers(answers(calls))
+        self.assertEqual(told, [
+            [-2], [-2], [-1], [-1], [-1], [-1], [-1], [-1], [-1], [-1], [0], [-1], [-1], [0], [-1], [0],
+            [0], [-1], [-13], [-1], [-1], [0], [-1], [-1], [-1], [-1], [0], [0], [-1],
+            [10] + row_of("outline 1\n"), [2, 0], [0, 0, 0, 1]])
+
+    def test_two_hundred_long_answers(self):
+        text = "outline 1000\n"
+        for number in range(1, 61):
+            text += "#" * ((number + 9) // 10) + f" {number} + {'@60' * 20}\n"
+        told = split_answers(answers(written("load", text) + written("contents", 7) * 199))
+        self.assertEqual(told[0], [0])
+        self.assertEqual(told[1:], [told[1]] * 199)
+        self.assertLessEqual(len(told[1]), 50000)

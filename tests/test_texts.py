@@ -2,7 +2,7 @@
 
 import unittest
 
-from outlinebook.texts import is_text, references_in, renumbered
+from outlinebook.texts import is_text, parts_of, references_in, renumbered, shown
 from tests.helper import row_of
 
 
@@ -42,3 +42,20 @@ class ReferenceTest(unittest.TestCase):
         self.assertEqual(renumbered(text, {1: 10, 12: 13, 123: 456}), row_of("a@10@2@13@456@4564@@1@"))
         self.assertEqual(text, row_of("a@1@2@12@123@1234@@1@"))
         self.assertEqual(renumbered(text, {}), text)
+
+    def test_parts_are_the_whole_text(self):
+        for text in ("", "@", "@@", "a@@@12b@0@", "@1234@@@@5", "@999@"):
+            row = row_of(text)
+            joined = []
+            for start, end, number in parts_of(row):
+                self.assertEqual(start, len(joined))
+                joined += row[start:end]
+            self.assertEqual(joined, row)
+
+    def test_shown(self):
+        labels = {12: row_of("2.1"), 1: row_of("#10")}
+        row = row_of("see @12, @7 @@@x@0")
+        self.assertEqual(shown(row, labels), row_of("see 2.1, ? @@x@0"))
+        self.assertEqual(row, row_of("see @12, @7 @@@x@0"))
+        self.assertEqual(shown(row_of("@1@1@123@@1"), labels), row_of("#10#10?@1"))
+        self.assertEqual(labels, {12: row_of("2.1"), 1: row_of("#10")})
